@@ -1,0 +1,1 @@
+"""Restward: whether every way dies, and if not, how many grow."""

@@ -43,8 +43,6 @@ def common(p, q):
     other_factor = []
     if other_wholes:
         other_factor = whole_over(whole_less(rest, whole_times(factor, wholes)), other_wholes)
-    if rest[-1] < 0:
-        rest, factor, other_factor = [whole_scaled(-1, each) for each in (rest, factor, other_factor)]
     lead = over(ONE, (rest[-1], 1))
     return (lowered(lead, rest), lowered(over(lead, scale), factor), lowered(over(lead, other_scale), other_factor))
 

@@ -4,6 +4,7 @@ from restward.errors import NoFraction
 
 NOUGHT = (0, 1)
 ONE = (1, 1)
+# Both in bits: below the first, plain steps of Euclid's way are the quicker ones.
 SHORT = 6000
 HEAD = 128
 

@@ -1,7 +1,7 @@
 """Polynomials: lists of numbers, the one at place i belonging to x to the power i, the last one not 0."""
 
 from restward.numbers import NOUGHT, fraction, is_number, less, over, plus, times
-from restward.wholes import lifted, lowered, whole_times, whole_worth
+from restward.wholes import form_times, lifted, lowered, whole_worth
 
 
 def is_polynomial(thing):
@@ -36,9 +36,8 @@ def poly_less(p, q):
 
 def poly_times(p, q):
     """The product of two polynomials."""
-    scale, wholes = lifted(p)
-    other_scale, other_wholes = lifted(q)
-    return lowered(times(scale, other_scale), whole_times(wholes, other_wholes))
+    scale, wholes = form_times(lifted(p), lifted(q))
+    return lowered(scale, wholes)
 
 
 def scaled(number, p):
@@ -62,8 +61,9 @@ def power_of(whole, many):
 def moved(wholes, step):
     """The wholes with x + step in the place of x, step a whole number."""
     result = list(wholes)
-    for first in range(len(result) - 1):
-        for place in range(len(result) - 2, first - 1, -1):
+    last = len(result) - 1
+    for first in range(last):
+        for place in range(last - 1, first - 1, -1):
             result[place] += step * result[place + 1]
     return result
 

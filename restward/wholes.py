@@ -6,6 +6,7 @@ A form is a tuple (scale, wholes): a number above 0, times wholes that no number
 
 from restward.numbers import ONE, common_divisor, over, times
 
+# In bits: below it, a search for each number is quicker than one for all.
 LONG = 1000
 
 
@@ -70,7 +71,7 @@ def divisor_for_all(wholes, bottom):
 
 
 def lowered(scale, wholes):
-    """The list of the numbers that a number above 0 times these wholes is."""
+    """The list of the numbers that a number other than 0, times these wholes, is."""
     top, bottom = scale
     divisor = divisor_for_all(wholes, bottom)
     numbers = []
@@ -164,14 +165,33 @@ def whole_common(one, other):
     return over_content(one)
 
 
+def formed(scale, wholes):
+    """The form of a number above 0 times these wholes."""
+    if not wholes:
+        return (ONE, [])
+    content = content_of(wholes)
+    return (times(scale, (content, 1)), [whole // content for whole in wholes])
+
+
+def form_sum(one, other):
+    """The sum of two forms."""
+    if not one[1] or not other[1]:
+        return one if one[1] else other
+    top, bottom = over(other[0], one[0])
+    wholes = whole_sum(whole_scaled(bottom, one[1]), whole_scaled(top, other[1]))
+    return formed(over(one[0], (bottom, 1)), wholes)
+
+
+def form_times(one, other):
+    """The product of two forms: without content too, as each of them is."""
+    return (times(one[0], other[0]), whole_times(one[1], other[1]))
+
+
 def form_divided(one, other):
-    """A tuple (quotient, rest) of two forms, by which one form is divided by another one."""
+    """A tuple (quotient, rest), by which one form is divided by another one.
+
+    The rest is a form; the quotient is a number above 0 and wholes likewise, but these may have a content.
+    """
     many, quotient, rest = whole_divided(one[1], other[1])
     scale = over(one[0], (many, 1))
-    content = content_of(rest)
-    if rest:
-        rest = [whole // content for whole in rest]
-        rest_scale = times(scale, (content, 1))
-    else:
-        rest_scale = ONE
-    return (over(scale, other[0]), quotient), (rest_scale, rest)
+    return (over(scale, other[0]), quotient), formed(scale, rest)

@@ -1,0 +1,40 @@
+"""How many roots lie left of the upright axis, on it, and right of it."""
+
+from restward.commons import parted
+from restward.divisions import division_forms
+from restward.errors import NoPolynomial
+from restward.numbers import NOUGHT
+from restward.stretches import root_count
+
+
+def left_by(wholes):
+    """How many of the roots that a quotient stands for lie left."""
+    half = (len(wholes) - 2) // 2
+    lead = -wholes[-1] if half & 1 else wholes[-1]
+    return half + 1 if lead > 0 else half
+
+
+def on_axis(wholes):
+    """How many roots lie on the axis, of a polynomial with odd powers alone or even ones alone."""
+    lowest = 0
+    while wholes[lowest] == 0:
+        lowest += 1
+    squares = [(whole, 1) for whole in wholes[lowest::2]]
+    pairs = sum([often * root_count(part, None, NOUGHT) for part, often in parted(squares)])
+    return lowest + 2 * pairs
+
+
+def three(p):
+    """The tuple (left, on, right) of how many roots of p lie there, each as often as it stands."""
+    if not p:
+        raise NoPolynomial("nought has no three numbers")
+    quotients, last = division_forms(p)
+    on = on_axis(last[1])
+    left = (len(last[1]) - 1 - on) // 2
+    left += sum([left_by(wholes) for scale, wholes in quotients])
+    return (left, on, len(p) - 1 - on - left)
+
+
+def dies(p):
+    """Whether all roots of p lie left."""
+    return bool(p) and three(p)[0] == len(p) - 1

@@ -55,12 +55,17 @@ def is_row(quotients, last):
     return sum([len(thing) - 1 for thing in quotients + [last]]) <= HIGHEST
 
 
-def undivided(quotients, last):
-    """The polynomial whose divisions these are."""
-    if not is_row(quotients, last):
-        raise NoRow("these are no divisions")
+def put_together(quotients, last):
+    """The polynomial with these divisions, which aren't looked at."""
     one, other = lifted(last), (ONE, [])
     for quotient in reversed(quotients):
         one, other = form_sum(form_times(lifted(quotient), one), other), one
     scale, wholes = form_sum(one, other)
     return lowered(scale, wholes)
+
+
+def undivided(quotients, last):
+    """The polynomial whose divisions these are."""
+    if not is_row(quotients, last):
+        raise NoRow("these are no divisions")
+    return put_together(quotients, last)

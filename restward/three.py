@@ -24,15 +24,22 @@ def on_axis(wholes):
     return lowest + 2 * pairs
 
 
+def three_by(quotients, last):
+    """The three numbers of the polynomial with these divisions, each a number above 0 and wholes."""
+    on = on_axis(last[1])
+    left = right = (len(last[1]) - 1 - on) // 2
+    for scale, wholes in quotients:
+        left += left_by(wholes)
+        right += len(wholes) - 1 - left_by(wholes)
+    return (left, on, right)
+
+
 def three(p):
     """The tuple (left, on, right) of how many roots of p lie there, each as often as it stands."""
     if not p:
         raise NoPolynomial("nought has no three numbers")
     quotients, last = division_forms(p)
-    on = on_axis(last[1])
-    left = (len(last[1]) - 1 - on) // 2
-    left += sum([left_by(wholes) for scale, wholes in quotients])
-    return (left, on, len(p) - 1 - on - left)
+    return three_by(quotients, last)
 
 
 def dies(p):

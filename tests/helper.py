@@ -4,6 +4,7 @@ import copy
 import random
 import unittest
 from fractions import Fraction
+from itertools import permutations
 
 import restward.errors as errors
 
@@ -69,6 +70,92 @@ def worth_frac(p, x):
     for value in reversed(fracs(p)):
         total = total * x + value
     return total
+
+
+def line(root):
+    """x less a root, and its three numbers."""
+    return [-root, 1], (int(root < 0), int(root == 0), int(root > 0))
+
+
+def pair(u, v):
+    """(x - u)(x - u) + v, v above 0: two roots with the real part u."""
+    return [u * u + v, -2 * u, 1], (2 * (u < 0), 2 * (u == 0), 2 * (u > 0))
+
+
+def upright(v):
+    return [v, 0, 1], (0, 2, 0)
+
+
+def level(v):
+    return [-v, 0, 1], (1, 0, 1)
+
+
+def cross(v):
+    return [v, 0, 0, 0, 1], (2, 0, 2)
+
+
+def factors(chance):
+    small = [Fraction(value) for value in (-2, -1, 0, 1, 3)] + [Fraction(-1, 3), Fraction(5, 7)]
+    far = [chance.fraction(12) for _ in range(3)]
+    above = [Fraction(1), Fraction(2), Fraction(1, 5), abs(chance.fraction(12)) + 1]
+    return ([line(root) for root in small + far] + [pair(u, v) for u in small + far for v in above[1:]]
+            + [make(v) for make in (upright, level, cross) for v in above])
+
+
+def chosen_factors(chance, known, highest):
+    """Some of these factors, some of them twice, together not above a degree."""
+    chosen = []
+    room = highest
+    while room > 0:
+        factor = chance.pick(known)
+        often = chance.pick([1, 1, 2])
+        room -= (len(factor[0]) - 1) * often
+        if room >= 0:
+            chosen.extend([factor] * often)
+    return chosen
+
+
+def known_product(lead, chosen):
+    """The polynomial of these factors, and its three numbers."""
+    p = product([lead], *[factor for factor, numbers in chosen])
+    return p, tuple(sum(numbers[at] for factor, numbers in chosen) for at in range(3))
+
+
+def known_polynomials(chance, many, highest):
+    """So many polynomials of known factors, each with its three numbers: about half of them die."""
+    known = factors(chance)
+    dying = [(factor, numbers) for factor, numbers in known if numbers[0] == len(factor) - 1]
+    for at in range(many):
+        chosen = chosen_factors(chance, dying if at % 2 else known, chance.whole(1, highest))
+        yield known_product(chance.fraction(12) or 1, chosen)
+
+
+def table(*rows):
+    return [made(*row) for row in rows]
+
+
+def chance_table(chance, n, figures, bottoms=True):
+    return [made(*chance.values(n, figures, bottoms)) for _ in range(n)]
+
+
+def product_of(one, other):
+    n = len(one)
+    return [[num(sum(frac(one[i][k]) * frac(other[k][j]) for k in range(n))) for j in range(n)] for i in range(n)]
+
+
+def sign_of(order):
+    return (-1) ** sum(order[i] > order[j] for i in range(len(order)) for j in range(i + 1, len(order)))
+
+
+def determinant_of(rows):
+    """By all orders of the columns."""
+    total = Fraction(0)
+    for order in permutations(range(len(rows))):
+        part = Fraction(sign_of(order))
+        for at, place in enumerate(order):
+            part *= frac(rows[at][place])
+        total += part
+    return num(total)
 
 
 def lists_in(thing):
@@ -162,6 +249,20 @@ class RestCase(unittest.TestCase):
             self.assertNumber(number)
         if thing:
             self.assertNotEqual(thing[-1][0], 0)
+
+
+class TableCase(RestCase):
+    def assertTable(self, thing, n):
+        self.assertIs(type(thing), list)
+        self.assertEqual(len(thing), n)
+        for row in thing:
+            self.assertColumn(row, n)
+
+    def assertColumn(self, thing, n):
+        self.assertIs(type(thing), list)
+        self.assertEqual(len(thing), n)
+        for number in thing:
+            self.assertNumber(number)
 
 
 def same(one, other):

@@ -1,36 +1,7 @@
 from fractions import Fraction
-from itertools import permutations
 
-from helper import Chance, RestCase, frac, made, num
+from helper import Chance, TableCase, chance_table, determinant_of, frac, made, num, product_of, table
 from restward.tables import back_of, determinant, made_of, table_sum, table_times, turned, unit, worth_at
-
-
-def table(*rows):
-    return [made(*row) for row in rows]
-
-
-def chance_table(chance, n, figures, bottoms=True):
-    return [made(*chance.values(n, figures, bottoms)) for _ in range(n)]
-
-
-def product_of(one, other):
-    n = len(one)
-    return [[num(sum(frac(one[i][k]) * frac(other[k][j]) for k in range(n))) for j in range(n)] for i in range(n)]
-
-
-def sign_of(order):
-    return (-1) ** sum(order[i] > order[j] for i in range(len(order)) for j in range(i + 1, len(order)))
-
-
-def determinant_of(rows):
-    """By all orders of the columns."""
-    total = Fraction(0)
-    for order in permutations(range(len(rows))):
-        part = Fraction(sign_of(order))
-        for at, place in enumerate(order):
-            part *= frac(rows[at][place])
-        total += part
-    return num(total)
 
 
 def samples():
@@ -40,20 +11,6 @@ def samples():
     found += [unit(n) for n in range(1, 8)]
     found += [[made(*[0] * n) for _ in range(n)] for n in (1, 2, 7)]
     return found + [chance_table(chance, 3, 300), chance_table(chance, 7, 300, False)]
-
-
-class TableCase(RestCase):
-    def assertTable(self, thing, n):
-        self.assertIs(type(thing), list)
-        self.assertEqual(len(thing), n)
-        for row in thing:
-            self.assertColumn(row, n)
-
-    def assertColumn(self, thing, n):
-        self.assertIs(type(thing), list)
-        self.assertEqual(len(thing), n)
-        for number in thing:
-            self.assertNumber(number)
 
 
 class Units(TableCase):

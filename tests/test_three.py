@@ -1,45 +1,14 @@
 from fractions import Fraction
 
-from helper import Chance, RestCase, made, product
+from helper import Chance, RestCase, chosen_factors, cross, factors, known_product, level, line, made, pair, upright
 from restward.divisions import undivided
 from restward.polys import mirrored
 from restward.three import dies, three
 
 
-def line(root):
-    """x less a root, and its three numbers."""
-    return [-root, 1], (int(root < 0), int(root == 0), int(root > 0))
-
-
-def pair(u, v):
-    """(x - u)(x - u) + v, v above 0: two roots with the real part u."""
-    return [u * u + v, -2 * u, 1], (2 * (u < 0), 2 * (u == 0), 2 * (u > 0))
-
-
-def upright(v):
-    return [v, 0, 1], (0, 2, 0)
-
-
-def level(v):
-    return [-v, 0, 1], (1, 0, 1)
-
-
-def cross(v):
-    return [v, 0, 0, 0, 1], (2, 0, 2)
-
-
-def factors(chance):
-    small = [Fraction(value) for value in (-2, -1, 0, 1, 3)] + [Fraction(-1, 3), Fraction(5, 7)]
-    far = [chance.fraction(12) for _ in range(3)]
-    above = [Fraction(1), Fraction(2), Fraction(1, 5), abs(chance.fraction(12)) + 1]
-    return ([line(root) for root in small + far] + [pair(u, v) for u in small + far for v in above[1:]]
-            + [make(v) for make in (upright, level, cross) for v in above])
-
-
 class Three(RestCase):
     def look(self, lead, chosen):
-        p = product([lead], *[factor for factor, numbers in chosen])
-        expected = tuple(sum(numbers[at] for factor, numbers in chosen) for at in range(3))
+        p, expected = known_product(lead, chosen)
         told = self.asked(three, p)
         self.assertIs(type(told), tuple)
         self.assertEqual([type(each) for each in told], [int] * 3)
@@ -57,14 +26,7 @@ class Three(RestCase):
         chance = Chance(72)
         known = factors(chance)
         for _ in range(300):
-            chosen = []
-            room = chance.whole(1, 14)
-            while room > 0:
-                factor = chance.pick(known)
-                often = chance.pick([1, 1, 2])
-                room -= (len(factor[0]) - 1) * often
-                if room >= 0:
-                    chosen.extend([factor] * often)
+            chosen = chosen_factors(chance, known, chance.whole(1, 14))
             self.look(chance.fraction(12) or 1, chosen)
 
     def test_degree_14_on_the_axis(self):

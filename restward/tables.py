@@ -77,20 +77,29 @@ def cleaned(row, chosen, at, before):
 
 
 def eliminated(rows):
-    """A tuple (determinant, rows): rows of whole numbers, brought by their sums to the determinant times the unit.
+    """A tuple (many, divisor, rows): rows of whole numbers, brought by their sums to noughts beside a diagonal.
 
-    The determinant is that of the first columns, as many as there are rows; what stands beside comes along. Where it
-    is 0, no rows are told.
+    The first columns, so many of them, come to the divisor times the unit, and the others come along. The column
+    behind the first ones hangs on them. Where these are as many as the rows, the divisor is their determinant.
     """
-    before = 1
+    divisor = 1
     for at in range(len(rows)):
-        rows = with_lead(rows, at)
-        if rows is None:
-            return 0, []
-        chosen = rows[at]
-        rows = [row if place == at else cleaned(row, chosen, at, before) for place, row in enumerate(rows)]
-        before = chosen[at]
-    return before, rows
+        led = with_lead(rows, at)
+        if led is None:
+            return at, divisor, rows
+        chosen = led[at]
+        rows = [row if place == at else cleaned(row, chosen, at, divisor) for place, row in enumerate(led)]
+        divisor = chosen[at]
+    return len(rows), divisor, rows
+
+
+def hanging(rows):
+    """Whole numbers, the last one not 0: the first columns, each times its own, added come to noughts.
+
+    They go to the first column that hangs on those ahead of it; there is one where columns are more than rows.
+    """
+    many, divisor, rows = eliminated(rows)
+    return [-row[many] for row in rows[:many]] + [divisor]
 
 
 def determinant(table):
@@ -101,17 +110,18 @@ def determinant(table):
         wholes, row_bottom = cleared(row)
         rows.append(wholes)
         bottom *= row_bottom
-    return fraction(eliminated(rows)[0], bottom)
+    many, divisor, rows = eliminated(rows)
+    return fraction(divisor, bottom) if many == len(table) else NOUGHT
 
 
 def back_of(table):
     """The table which times this one makes the unit."""
-    many = len(table)
+    n = len(table)
     rows = []
     for place, row in enumerate(table):
         wholes, bottom = cleared(row)
-        rows.append(wholes + [bottom if place == other else 0 for other in range(many)])
-    divisor, rows = eliminated(rows)
-    if divisor == 0:
+        rows.append(wholes + [bottom if place == other else 0 for other in range(n)])
+    many, divisor, rows = eliminated(rows)
+    if many < n:
         raise NoBack("the determinant is 0")
-    return [lowered(fraction(1, divisor), row[many:]) for row in rows]
+    return [lowered(fraction(1, divisor), row[n:]) for row in rows]

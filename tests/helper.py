@@ -130,6 +130,37 @@ def known_polynomials(chance, many, highest):
         yield known_product(chance.fraction(12) or 1, chosen)
 
 
+def at_root(root):
+    """x less a root, and its circle's numbers."""
+    return [-root, 1], (int(abs(root) < 1), int(abs(root) == 1), int(abs(root) > 1))
+
+
+def at_pair(u, v):
+    """Two roots of the real part u, v above 0, whose squared length is v and the square of u, added."""
+    length = u * u + v
+    return [length, -2 * u, 1], (2 * (length < 1), 2 * (length == 1), 2 * (length > 1))
+
+
+def circle_factors(chance):
+    """Factors with their circle's numbers: within, on the circle, beyond, at a and at 1 / a."""
+    far = [chance.fraction(12) or Fraction(2) for _ in range(2)]
+    roots = [Fraction(value) for value in (0, 1, -1, 3)] + [Fraction(1, 3), Fraction(-2, 5), Fraction(-5, 2)] + far
+    roots += [1 / root for root in far]
+    pairs = [(Fraction(3, 5), Fraction(16, 25)), (Fraction(0), Fraction(1)), (Fraction(-5, 13), Fraction(144, 169)),
+             (Fraction(1, 2), Fraction(1, 7)), (Fraction(-1, 3), Fraction(1, 9)), (Fraction(2), Fraction(1)),
+             (Fraction(0), Fraction(9)), (far[0], Fraction(1, 2))]
+    return [at_root(root) for root in roots] + [at_pair(u, v) for u, v in pairs]
+
+
+def chosen_circle(chance, many, highest):
+    """So many polynomials of known factors, each with its circle's numbers: about half of them lie within."""
+    known = circle_factors(chance)
+    within = [(factor, numbers) for factor, numbers in known if numbers[0] == len(factor) - 1]
+    for at in range(many):
+        chosen = chosen_factors(chance, within if at % 2 else known, chance.whole(1, highest))
+        yield known_product(chance.fraction(12) or 1, chosen)
+
+
 def table(*rows):
     return [made(*row) for row in rows]
 
@@ -156,6 +187,35 @@ def determinant_of(rows):
             part *= frac(rows[at][place])
         total += part
     return num(total)
+
+
+def diagonal(values):
+    return [[num(value if i == j else 0) for j in range(len(values))] for i, value in enumerate(values)]
+
+
+def led(form, by):
+    """by turned times the form times by."""
+    return product_of(product_of([list(column) for column in zip(*by)], form), by)
+
+
+def has_back(one):
+    """By plain elimination."""
+    rows = [fracs(row) for row in one]
+    while rows:
+        place = next((at for at, row in enumerate(rows) if row[0]), None)
+        if place is None:
+            return False
+        chosen = rows.pop(place)
+        rows = [[a - row[0] / chosen[0] * b for a, b in zip(row[1:], chosen[1:])] for row in rows]
+    return True
+
+
+def with_back(chance, n, figures, bottoms=True):
+    """A table by chance that has a back."""
+    one = chance_table(chance, n, figures, bottoms)
+    while not has_back(one):
+        one = chance_table(chance, n, figures, bottoms)
+    return one
 
 
 def lists_in(thing):

@@ -1,6 +1,6 @@
 from fractions import Fraction
 
-from helper import Chance, RestCase, frac, fracs, known_polynomials, made, num, product, sum_fracs, times_fracs
+from helper import Chance, RestCase, frac, known_polynomials, made, num, product, sum_fracs, times_fracs
 from restward.divisions import divisions
 from restward.parts import from_parts, parts_of
 from restward.polys import mirrored

@@ -1,27 +1,11 @@
 from fractions import Fraction
 
-from helper import Chance, TableCase, chance_table, frac, known_polynomials, made, num, product, product_of, table
+from helper import Chance, TableCase, diagonal, frac, known_polynomials, led, made, num, product, table, with_back
 from restward.commons import divided
 from restward.divisions import divisions
 from restward.squares import hermite, signs, squares
 from restward.tables import determinant, turned, unit
 from restward.three import three
-
-
-def diagonal(values):
-    return [[num(value if i == j else 0) for j in range(len(values))] for i, value in enumerate(values)]
-
-
-def led(form, by):
-    """by turned times the form times by."""
-    return product_of(product_of([list(column) for column in zip(*by)], form), by)
-
-
-def with_back(chance, n, figures, bottoms=True):
-    one = chance_table(chance, n, figures, bottoms)
-    while determinant(one) == num(0):
-        one = chance_table(chance, n, figures, bottoms)
-    return one
 
 
 def chance_form(chance, n, values):

@@ -121,13 +121,17 @@ def known_product(lead, chosen):
     return p, tuple(sum(numbers[at] for factor, numbers in chosen) for at in range(3))
 
 
-def known_polynomials(chance, many, highest):
-    """So many polynomials of known factors, each with its three numbers: about half of them die."""
-    known = factors(chance)
-    dying = [(factor, numbers) for factor, numbers in known if numbers[0] == len(factor) - 1]
+def known_products(chance, known, many, highest):
+    """So many polynomials of these factors, each with its numbers: about half of them have all roots at the first."""
+    first = [(factor, numbers) for factor, numbers in known if numbers[0] == len(factor) - 1]
     for at in range(many):
-        chosen = chosen_factors(chance, dying if at % 2 else known, chance.whole(1, highest))
+        chosen = chosen_factors(chance, first if at % 2 else known, chance.whole(1, highest))
         yield known_product(chance.fraction(12) or 1, chosen)
+
+
+def known_polynomials(chance, many, highest):
+    """So many polynomials of known factors, each with its three numbers."""
+    return known_products(chance, factors(chance), many, highest)
 
 
 def at_root(root):
@@ -153,12 +157,8 @@ def circle_factors(chance):
 
 
 def chosen_circle(chance, many, highest):
-    """So many polynomials of known factors, each with its circle's numbers: about half of them lie within."""
-    known = circle_factors(chance)
-    within = [(factor, numbers) for factor, numbers in known if numbers[0] == len(factor) - 1]
-    for at in range(many):
-        chosen = chosen_factors(chance, within if at % 2 else known, chance.whole(1, highest))
-        yield known_product(chance.fraction(12) or 1, chosen)
+    """So many polynomials of known factors, each with its circle's numbers."""
+    return known_products(chance, circle_factors(chance), many, highest)
 
 
 def table(*rows):

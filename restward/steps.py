@@ -16,7 +16,8 @@ def steps_back(wholes):
         if abs(first) >= abs(lead):
             return None
         found.append(fraction(first, lead))
-        # As in an elimination, what comes can be divided by the lead of the last but one (not by the very first lead).
+        # As in an elimination, the lead of the polynomial before, but for the very first one, divides all that comes:
+        # without this the numbers would grow twice as long at each step.
         wholes = [(lead * one - first * other) // divisor for one, other in zip(wholes[1:], wholes[-2::-1])]
         divisor, further = further, wholes[-1]
     return found

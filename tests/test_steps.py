@@ -131,8 +131,9 @@ class Back(RestCase):
     def test_lists_that_are_no_steps(self):
         good = made(Fraction(1, 2), 0)
         for wrong in (num(1), num(-1), num(2), num(-2), num(3, 2), num(-3, 2), (2, 4), (0, 2), (1, 0), (1, -2),
-                      (-1, -2), (True, 2), (False, 1), (0, True), 1, 0, True, False, None, "0", "", "1/2", [1, 2], [0, 1], [], (),
-                      (0,), (0, 1, 1), [(0, 1)], ((0, 1), (0, 1)), (None, 1), (0, None), ("0", 1), ((0,), 1), ([0], 1)):
+                      (-1, -2), (True, 2), (False, 1), (0, True), 1, 0, True, False, None, "0", "", "1/2", [1, 2],
+                      [0, 1], [], (), (0,), (0, 1, 1), [(0, 1)], ((0, 1), (0, 1)), (None, 1), (0, None), ("0", 1),
+                      ((0,), 1), ([0], 1)):
             for at in range(3):
                 self.refused("NoSteps", from_steps, good[:at] + [wrong] + good[at:], num(1))
             self.refused("NoSteps", from_steps, [wrong], num(-2))

@@ -113,6 +113,11 @@ def over(one, other):
     return times(one, (bottom, top))
 
 
+def middle(one, other):
+    """The number halfway between two numbers."""
+    return times(plus(one, other), (1, 2))
+
+
 def sign_of_whole(whole):
     """1, 0 or -1, as a whole number is above, at or below 0."""
     if whole > 0:

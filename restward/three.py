@@ -5,6 +5,7 @@ from restward.divisions import division_forms
 from restward.errors import NoPolynomial
 from restward.numbers import NOUGHT
 from restward.stretches import root_count
+from restward.wholes import lifted
 
 
 def left_by(wholes):
@@ -42,6 +43,36 @@ def three(p):
     return three_by(quotients, last)
 
 
+def row_behind(row, further, divisor):
+    """The row behind two of the steep table's rows, each brought to a diagonal by those ahead of it.
+
+    Each number that comes is a minor of that table, and so the division leaves no rest.
+    """
+    lead, own = further[0], row[0]
+    beside = further[1:] + [0] * (len(row) - len(further))
+    return [(lead * whole - own * other) // divisor for whole, other in zip(row[1:], beside)]
+
+
+def whole_dies(wholes):
+    """Whether all roots of a polynomial by wholes, not nought, lie left: whether all leads of its steep table agree.
+
+    It ends where the first one doesn't, and seeks no divisors: so it is by far quicker than the three numbers.
+    """
+    if wholes[-1] < 0:
+        wholes = [-whole for whole in wholes]
+    if min(wholes) <= 0:
+        return False
+    row, further = wholes[::-2], wholes[-2::-2]
+    divisor = ahead = 1
+    while further:
+        lead = further[0]
+        if lead <= 0:
+            return False
+        row, further = further, row_behind(row, further, divisor)
+        divisor, ahead = ahead, lead
+    return True
+
+
 def dies(p):
     """Whether all roots of p lie left."""
-    return bool(p) and three(p)[0] == len(p) - 1
+    return bool(p) and whole_dies(lifted(p)[1])

@@ -198,6 +198,29 @@ def led(form, by):
     return product_of(product_of([list(column) for column in zip(*by)], form), by)
 
 
+def noughts(n):
+    return [made(*[0] * n) for _ in range(n)]
+
+
+def back_by_fracs(one):
+    """By plain elimination, the unit beside it."""
+    n = len(one)
+    rows = [fracs(row) + [Fraction(int(i == j)) for j in range(n)] for i, row in enumerate(one)]
+    for at in range(n):
+        place = next(k for k in range(at, n) if rows[k][at])
+        rows[at], rows[place] = rows[place], rows[at]
+        rows[at] = [value / rows[at][at] for value in rows[at]]
+        for k in range(n):
+            if k != at:
+                rows[k] = [a - rows[k][at] * b for a, b in zip(rows[k], rows[at])]
+    return [made(*row[n:]) for row in rows]
+
+
+def like(one, by):
+    """The back of by, times the table, times by: with the same roots."""
+    return product_of(back_by_fracs(by), product_of(one, by))
+
+
 def has_back(one):
     """By plain elimination."""
     rows = [fracs(row) for row in one]

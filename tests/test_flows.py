@@ -1,29 +1,20 @@
 from fractions import Fraction
 
 from helper import (
-    Chance, TableCase, chance_table, determinant_of, diagonal, frac, fracs, known_polynomials, led, made, num, product,
-    product_of, table, with_back, worth_frac,
+    Chance, TableCase, chance_table, determinant_of, diagonal, frac, fracs, known_polynomials, led, like, made, noughts,
+    num, product, product_of, table, with_back, worth_frac,
 )
 from restward.flows import flow_form, flow_said, poly_table, table_poly, worth_by
 from restward.polys import scaled
 from restward.squares import signs
-from restward.tables import back_of, table_times, turned, unit, worth_at
+from restward.tables import turned, unit, worth_at
 from restward.three import three
-
-
-def noughts(n):
-    return [made(*[0] * n) for _ in range(n)]
 
 
 def along_flow(one, form):
     """The table turned times the form, and the form times the table, added."""
     first, second = product_of([list(column) for column in zip(*one)], form), product_of(form, one)
     return [[num(frac(a) + frac(b)) for a, b in zip(*rows)] for rows in zip(first, second)]
-
-
-def like(one, by):
-    """The back of by, times the table, times by: with the same roots."""
-    return table_times(back_of(by), table_times(one, by))
 
 
 def samples():

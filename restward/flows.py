@@ -116,16 +116,22 @@ def flow_form(table):
     return form_told(order, n, lines)
 
 
+def column_below(lead, numbers):
+    """A column at which the form with these squares has a worth below 0; None where it has none."""
+    for place, number in enumerate(numbers):
+        if number[0] < 0:
+            return [row[place] for row in lead]
+    return None
+
+
 def said_by(told):
     """("dies", P), ("grows", P, x) or ("kept", X), by what was told of a form."""
     word, form = told
     if word == "kept":
         return told
     lead, numbers = squares(form)
-    for place, number in enumerate(numbers):
-        if number[0] < 0:
-            return ("grows", form, [row[place] for row in lead])
-    return ("dies", form)
+    column = column_below(lead, numbers)
+    return ("dies", form) if column is None else ("grows", form, column)
 
 
 def flow_said(table):

@@ -5,6 +5,7 @@ import random
 import unittest
 from fractions import Fraction
 from itertools import permutations
+from math import gcd
 
 import restward.errors as errors
 
@@ -254,6 +255,143 @@ def spoil(thing):
     for each in lists_in(thing):
         each.append("spoiled")
         each.reverse()
+
+
+def poly_of_parts(parts, last):
+    """By Python's own fractions, from the last part on."""
+    one, other = [frac(last)], []
+    for part in reversed(parts):
+        one, other = sum_fracs(times_fracs([Fraction(0), frac(part)], one), other), one
+    return made(*sum_fracs(one, other))
+
+
+def poly_of_steps(numbers, last):
+    """By Python's own fractions, step by step."""
+    q = [frac(last)]
+    for k in fracs(numbers):
+        q = sum_fracs([Fraction(0)] + q, [k * value for value in reversed(q)])
+    return made(*q)
+
+
+ORDERS = ("llhh", "hhll", "lhhl", "hllh")
+
+
+def box_of(*spans):
+    """A box of pairs of whole numbers and fractions; one alone stands for both."""
+    return [(num(span), num(span)) if not isinstance(span, tuple) else (num(span[0]), num(span[1])) for span in spans]
+
+
+def corner(box, order):
+    return [box[at]["lh".index(order[at % 4])] for at in range(len(box))]
+
+
+class Judge:
+    """What the document says of papers, by Python's own fractions: of any thing whether it is one that is so."""
+
+    def number(self, thing):
+        return (type(thing) is tuple and len(thing) == 2 and type(thing[0]) is int and type(thing[1]) is int
+                and thing[1] >= 1 and gcd(thing[0], thing[1]) == 1)
+
+    def numbers(self, thing, many):
+        return type(thing) is list and len(thing) == many and all(self.number(each) for each in thing)
+
+    def poly(self, thing, lowest):
+        return (type(thing) is list and lowest <= len(thing) - 1 <= 7 and self.numbers(thing, len(thing))
+                and thing[-1][0] != 0)
+
+    def table(self, thing, n):
+        return type(thing) is list and len(thing) == n and all(self.numbers(row, n) for row in thing)
+
+    def squares(self, form, lead, numbers):
+        n = len(form)
+        return (self.table(lead, n) and self.numbers(numbers, n) and has_back(lead)
+                and led(form, lead) == diagonal(fracs(numbers)))
+
+    def parts(self, p, parts, last):
+        return (type(parts) is list and self.numbers(parts, len(p) - 1) and self.number(last) and last[0] != 0
+                and all(part[0] > 0 for part in parts) and poly_of_parts(parts, last) == p)
+
+    def dies(self, p, parts, last):
+        return self.poly(p, 0) and self.parts(p, parts, last)
+
+    def signs(self, p, lead, numbers):
+        return self.poly(p, 1) and self.squares(hermite_of(p), lead, numbers)
+
+    def between(self, p, points):
+        if not self.poly(p, 1) or not self.numbers(points, len(p) - 1) or points[0] != num(0):
+            return False
+        even, odd = p[0::2], p[1::2]
+        places = fracs(points)
+        if worth_frac(even, 0) * worth_frac(odd, 0) <= 0 or sorted(set(places), reverse=True) != places:
+            return False
+        return all(worth_frac(half, one) * worth_frac(half, other) < 0
+                   for half, one, other in zip([even, odd] * 4, places, places[1:]))
+
+    def change(self, tick, one, form):
+        """By how much a form changes, along the flow or at a tick."""
+        if tick:
+            return [[num(frac(a) - frac(b)) for a, b in zip(*rows)] for rows in zip(led(form, one), form)]
+        behind = product_of(form, one)
+        ahead = product_of([list(column) for column in zip(*one)], form)
+        return [[num(frac(a) + frac(b)) for a, b in zip(*rows)] for rows in zip(ahead, behind)]
+
+    def fallen(self, tick, one, form, many):
+        if type(one) is not list or not 1 <= len(one) <= 4 or not self.table(one, len(one)):
+            return False
+        if not self.table(form, len(one)) or [list(column) for column in zip(*form)] != form:
+            return False
+        return self.change(tick, one, form) == diagonal([many] * len(one))
+
+    def falls(self, tick, one, form, lead, numbers):
+        return (self.fallen(tick, one, form, -1) and self.squares(form, lead, numbers)
+                and all(number[0] > 0 for number in numbers))
+
+    def grows(self, tick, one, form, x):
+        if not self.fallen(tick, one, form, -1) or not self.numbers(x, len(one)):
+            return False
+        return sum(frac(a) * frac(form[i][j]) * frac(b) for i, a in enumerate(x) for j, b in enumerate(x)) < 0
+
+    def kept(self, tick, one, form):
+        return self.fallen(tick, one, form, 0) and form != noughts(len(one))
+
+    def steps(self, p, numbers, last):
+        return (self.poly(p, 0) and self.numbers(numbers, len(p) - 1) and self.number(last) and last[0] != 0
+                and all(abs(frac(k)) < 1 for k in numbers) and poly_of_steps(numbers, last) == p)
+
+    def is_box(self, thing):
+        return (type(thing) is list and 2 <= len(thing) <= 8
+                and all(type(span) is tuple and len(span) == 2 and self.number(span[0]) and self.number(span[1])
+                        and frac(span[0]) <= frac(span[1]) for span in thing) and thing[-1][0][0] > 0)
+
+    def box(self, box, rows):
+        return (self.is_box(box) and type(rows) is list and len(rows) == 4
+                and all(type(row) is tuple and len(row) == 2 and self.parts(corner(box, order), *row)
+                        for row, order in zip(rows, ORDERS)))
+
+    def says(self, paper):
+        if type(paper) is not tuple or not paper or type(paper[0]) is not str:
+            return False
+        word, parts = paper[0], paper[1:]
+        if word in ("dies", "signs", "steps") and len(parts) == 3:
+            return getattr(self, word)(*parts)
+        if word in ("between", "box") and len(parts) == 2:
+            return getattr(self, word)(*parts)
+        tick, word = word.startswith("tick "), word[5:] if word.startswith("tick ") else word
+        if {"falls": 4, "grows": 3, "kept": 2}.get(word) == len(parts):
+            return getattr(self, word)(tick, *parts)
+        return False
+
+
+def hermite_of(p):
+    """By what stands beside each power of x and of y, times x + y."""
+    n = len(p) - 1
+    values = fracs(p)
+    rows = [[Fraction(0)] * n for _ in range(n)]
+    for i in range(n):
+        for j in range(1, n + 1):
+            whole = 2 * values[i] * values[j] if (i + j) % 2 else Fraction(0)
+            rows[i][j - 1] = whole - (rows[i - 1][j] if i and j < n else 0)
+    return table(*rows)
 
 
 class Chance:

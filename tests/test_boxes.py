@@ -1,27 +1,17 @@
 from fractions import Fraction
 
-from helper import Chance, RestCase, frac, fracs, known_polynomials, made, num, product
+from helper import ORDERS, Chance, RestCase, box_of, corner, frac, fracs, known_polynomials, made, num, product
 from restward.boxes import box_said, corners, is_box, room_of, widened, within
 from restward.parts import from_parts, parts_of
 from restward.three import dies, three
 
-ORDERS = ("llhh", "hhll", "lhhl", "hllh")
 HAIRS = (num(1), num(1, 1000000), num(3, 7), num(9999999))
-
-
-def box_of(*spans):
-    """A box of pairs of whole numbers and fractions; one alone stands for both."""
-    return [(num(span), num(span)) if not isinstance(span, tuple) else (num(span[0]), num(span[1])) for span in spans]
 
 
 def around(p, far):
     """The box around a polynomial with a lead above 0, each number so far from its ends as a part of itself."""
     sign = 1 if frac(p[-1]) > 0 else -1
     return box_of(*[(sign * value - abs(value) * far, sign * value + abs(value) * far) for value in fracs(p)])
-
-
-def corner(box, order):
-    return [box[at]["lh".index(order[at % 4])] for at in range(len(box))]
 
 
 def some_within(chance, box):
@@ -61,8 +51,8 @@ def wrong_things():
              (one, (4, 2)), ((0, 2), one), ((1, 0), one), ((1, -1), num(2)), ((-1, -1), num(2)), ((True, 1), num(2)),
              (one, (True, 1)), ((1, True), num(2)), (one, [2, 1]), ([1, 1], num(2)), (one, "2"), ("a", "b"),
              ((one, one), (one, one)), (one, (1, 1, 1)), (one, (1,)), [(1, 1), (1, 1)], ((None, 1), one), one]
-    found = [None, True, False, 0, 1, -7, "", "box", (), [], [[]], [()], tuple(good), (good,), [good], good[0], good[:1],
-             good[1:2], box_of(*[1] * 9), box_of(*[1] * 100), [list(span) for span in good], made(1, 2, 3), [1, 2],
+    found = [None, True, False, 0, 1, -7, "", "box", (), [], [[]], [()], tuple(good), (good,), [good], good[0],
+             good[:1], good[1:2], box_of(*[1] * 9), box_of(*[1] * 100), [list(span) for span in good], made(1, 2, 3), [1, 2],
              ["ab", "cd"], [None, None], [True, False], [(1, 2), (3, 4)], [((1, 2), (3, 4))],
              [good, good], [tuple(good)], ("box", good, []), "((1, 1), (1, 1))", [[[[[[[[]]]]]]]], [None] * 8]
     for span in spans:

@@ -72,9 +72,23 @@ def is_plain(node):
         return isinstance(node.value, (int, str, bytes, bool, type(None)))
     if isinstance(node, (ast.Tuple, ast.List)):
         return all(is_plain(each) for each in node.elts)
+    if isinstance(node, ast.Dict):
+        return all(is_plain(each) and not isinstance(each, (ast.List, ast.Dict)) for each in node.keys + node.values)
     if isinstance(node, ast.UnaryOp):
         return isinstance(node.op, ast.USub) and is_plain(node.operand)
     return isinstance(node, ast.Name)
+
+
+def own_of(tree):
+    """The methods and the values that the classes of a file give."""
+    methods, values = set(), set()
+    for node in tree.body:
+        for method in [each for each in getattr(node, "body", []) if isinstance(node, ast.ClassDef)]:
+            if isinstance(method, ast.FunctionDef):
+                methods.add(method.name)
+                values |= {each.attr for each in ast.walk(method) if isinstance(each, ast.Attribute)
+                           and isinstance(each.ctx, ast.Store)}
+    return methods, values
 
 
 class Looker:
@@ -86,6 +100,9 @@ class Looker:
         self.tree = ast.parse(text)
         self.parents = parents_of(self.tree)
         self.bound, self.drawn = top_names(self.tree)
+        self.methods, self.values = own_of(self.tree)
+        self.kept = {node.targets[0].id for node in self.tree.body if isinstance(node, ast.Assign)
+                     and isinstance(node.targets[0], ast.Name) and isinstance(node.value, (ast.List, ast.Dict))}
 
     def fault(self, rule, node):
         self.faults.append((rule, getattr(node, "lineno", node)))
@@ -115,6 +132,17 @@ class Looker:
             if WORDS.search(row):
                 self.fault("L17 word", at)
 
+    def look_at_kept(self, node):
+        """A list or dict of a file's top isn't changed, nor handed on."""
+        for each in ast.walk(node):
+            if isinstance(each, ast.Name) and each.id in self.kept:
+                parent = self.parents[each]
+                read = (isinstance(parent, ast.Subscript) and isinstance(parent.ctx, ast.Load)
+                        or isinstance(parent, ast.Compare) or isinstance(parent, (ast.For, ast.comprehension))
+                        or isinstance(parent, ast.Call) and getattr(parent.func, "id", "") == "len")
+                if not read:
+                    self.fault("L15 " + each.id, each)
+
     def look_at_top(self):
         for name in set(self.bound):
             if self.bound.count(name) > 1:
@@ -142,6 +170,7 @@ class Looker:
             self.fault("L4", node)
         self.look_at_name(node, node.name)
         self.look_at_locals(node)
+        self.look_at_kept(node)
 
     def look_at_locals(self, node):
         names = [each.arg for each in node.args.args]
@@ -259,8 +288,13 @@ class Looker:
 
     def look_Attribute(self, node):
         parent = self.parents[node]
-        if node.attr not in METHODS or not (isinstance(parent, ast.Call) and parent.func is node):
-            self.fault("L25 " + node.attr, node)
+        called = isinstance(parent, ast.Call) and parent.func is node
+        if called and node.attr not in METHODS | self.methods or not called and node.attr not in self.values:
+            self.fault("L18/L25 " + node.attr, node)
+        if node.attr in METHODS & self.values or node.attr in self.methods & self.values or node.attr in NO_NAMES:
+            self.fault("L18/L26 " + node.attr, node)
+        if isinstance(node.ctx, ast.Store) and not (isinstance(node.value, ast.Name) and node.value.id == "self"):
+            self.fault("L18", node)
 
     def look_Call(self, node):
         name = getattr(node.func, "id", "")
@@ -353,12 +387,19 @@ class TheLooker(unittest.TestCase):
         "@f\ndef g(x):\n    return x\n", "def f(x):\n    return isinstance(x, set)\n", "x = [y for y in (1, 2)]\n",
         "def f(x):\n    return f'{x:3}'\n", "def f(x):\n    try:\n        x()\n    except:\n        pass\n",
         "def f(x):\n    while x:\n        x = 0\n    else:\n        x = 1\n", "def f(x):\n    return chr(x)\n",
+        "X = {1: []}\n", "X = {}\n\n\ndef f(y):\n    X[y] = 1\n", "X = [1]\n\n\ndef f(y):\n    return X\n",
+        "def f(x):\n    return x.many\n", "def f(x):\n    x.many = 1\n", "def f(x):\n    return x.say(1)\n",
+        "class A:\n    def __init__(self):\n        self.items = 1\n",
+        "class A:\n    def say(self):\n        self.say = 1\n",
     )
 
     RIGHT = (
         '"""Words."""\n\nfrom restward.numbers import plus\n\nMANY = (1, 2)\n\n\ndef f(x, y=3):\n    """Words."""\n'
         "    total = 0\n    for at, (a, b) in enumerate(x):\n        total += a * b // 2\n    while total > 9:\n"
         "        total -= 1\n    return [plus(a, a) if a else None for a in reversed(x)] + list(range(y))\n",
+        "def f(desk, x):\n    return desk.say(x)\n\n\nDEEDS = {'a': f}\n\n\nclass Desk:\n    def __init__(self):\n"
+        "        self.many = {}\n\n    def say(self, x):\n        self.many[x] = 1\n        deed = DEEDS[x]\n"
+        "        return deed(self, x)\n",
     )
 
     def test_faults_are_seen(self):

@@ -1,18 +1,10 @@
 from fractions import Fraction
 
-from helper import Chance, RestCase, frac, known_polynomials, made, num, product, sum_fracs, times_fracs
+from helper import Chance, RestCase, known_polynomials, made, num, poly_of_parts, product
 from restward.divisions import divisions
 from restward.parts import from_parts, parts_of
 from restward.polys import mirrored
 from restward.three import dies
-
-
-def poly_of(parts, last):
-    """By Python's own fractions, from the last part on."""
-    one, other = [frac(last)], []
-    for part in reversed(parts):
-        one, other = sum_fracs(times_fracs([Fraction(0), frac(part)], one), other), one
-    return made(*sum_fracs(one, other))
 
 
 class There(RestCase):
@@ -89,7 +81,7 @@ class Back(RestCase):
         p = self.asked(from_parts, parts, last)
         self.assertPolynomial(p)
         self.assertEqual(len(p), len(parts) + 1)
-        self.assertTrue(p == poly_of(parts, last))
+        self.assertTrue(p == poly_of_parts(parts, last))
         self.assertTrue(self.asked(parts_of, p) == ("parts", parts, last))
         self.assertIs(dies(p), True)
 

@@ -1,18 +1,10 @@
 from fractions import Fraction
 
 from helper import (
-    Chance, RestCase, chosen_circle, circle_factors, frac, fracs, known_product, made, num, product, sum_fracs,
+    Chance, RestCase, chosen_circle, circle_factors, frac, known_product, made, num, poly_of_steps, product,
 )
 from restward.steps import from_steps, steps_of
 from restward.ticks import circle
-
-
-def poly_of(numbers, last):
-    """By Python's own fractions, step by step."""
-    q = [frac(last)]
-    for k in fracs(numbers):
-        q = sum_fracs([Fraction(0)] + q, [k * value for value in reversed(q)])
-    return made(*q)
 
 
 def small(chance, figures):
@@ -39,7 +31,7 @@ class There(RestCase):
             self.assertNumber(step)
             self.assertLess(abs(frac(step)), 1)
         self.assertEqual(last, p[-1])
-        self.assertTrue(poly_of(steps, last) == p)
+        self.assertTrue(poly_of_steps(steps, last) == p)
         self.assertTrue(self.asked(from_steps, steps, last) == p)
 
     def test_known(self):
@@ -90,7 +82,7 @@ class Back(RestCase):
         p = self.asked(from_steps, steps, last)
         self.assertPolynomial(p)
         self.assertEqual(len(p), len(steps) + 1)
-        self.assertTrue(p == poly_of(steps, last))
+        self.assertTrue(p == poly_of_steps(steps, last))
         self.assertTrue(self.asked(steps_of, p) == ("steps", steps, last))
         self.assertEqual(circle(p), (len(steps), 0, 0))
 

@@ -83,22 +83,13 @@ def all_die(box):
     return True
 
 
-def least_low(box):
-    """The least of all lows."""
-    least = box[0][0]
-    for low, high in box:
-        if is_below(low, least):
-            least = low
-    return least
-
-
 def room_of(box, hair):
     """A tuple (low, high), not further apart than hair: widened by low all die, by high not; None where some don't."""
     check_box(box)
     if not all_die(box):
         return None
-    # What dies with a lead above 0 has all its numbers above 0: so widening is ended by the least low at the latest.
-    low, high = NOUGHT, least_low(box)
+    # Widened by its last low it is no box any more.
+    low, high = NOUGHT, box[-1][0]
     while is_below(hair, less(high, low)):
         point = middle(low, high)
         if all_die(grown(box, point)):

@@ -13,7 +13,8 @@ HIGHEST = 5
 
 def check_gain(p, q):
     """Refuses two polynomials that make none with a gain."""
-    if len(p) < 2 or len(p) > HIGHEST + 1 or not q or len(q) >= len(p):
+    # What has a lower degree than p, and isn't nought, leaves p a degree from 1 on.
+    if len(p) - 1 > HIGHEST or not q or len(q) >= len(p):
         raise NoGain("a gain is of a degree from 1 to 5, by a lower one that isn't nought")
 
 

@@ -104,12 +104,15 @@ def changes_by(word, table, form, times):
     return True
 
 
+def are_parts_of(p, parts, last):
+    """Whether any two things are the parts of p and its last number."""
+    return are_parts(parts, last) and from_parts(parts, last) == p
+
+
 def look_at_dies(paper):
     """Whether a paper "dies" is so."""
     word, p, parts, last = paper
-    if not is_poly(p, 0) or not are_parts(parts, last) or len(parts) != len(p) - 1:
-        return False
-    return from_parts(parts, last) == p
+    return is_poly(p, 0) and are_parts_of(p, parts, last)
 
 
 def look_at_signs(paper):
@@ -167,25 +170,20 @@ def look_at_kept(paper):
 def look_at_steps(paper):
     """Whether a paper "steps" is so."""
     word, p, numbers, last = paper
-    if not is_poly(p, 0) or not are_steps(numbers, last) or len(numbers) != len(p) - 1:
-        return False
-    return from_steps(numbers, last) == p
+    return is_poly(p, 0) and are_steps(numbers, last) and from_steps(numbers, last) == p
 
 
-def is_row(thing):
-    """Whether any thing is a tuple (parts, last)."""
-    return isinstance(thing, tuple) and len(thing) == 2 and are_parts(thing[0], thing[1])
+def is_row_of(p, thing):
+    """Whether any thing is the tuple (parts, last) of p."""
+    return isinstance(thing, tuple) and len(thing) == 2 and are_parts_of(p, thing[0], thing[1])
 
 
 def look_at_box(paper):
     """Whether a paper "box" is so."""
     word, box, rows = paper
-    if not is_box(box) or not isinstance(rows, list) or len(rows) != CORNERS or not all([is_row(row) for row in rows]):
+    if not is_box(box) or not isinstance(rows, list) or len(rows) != CORNERS:
         return False
-    # More parts than a corner's degree aren't reckoned with.
-    if any([len(parts) >= len(box) for parts, last in rows]):
-        return False
-    return [from_parts(parts, last) for parts, last in rows] == corners_of(box)
+    return all([is_row_of(corner, row) for corner, row in zip(corners_of(box), rows)])
 
 
 SIZES = {
